@@ -1,0 +1,1 @@
+"""Callchain: news passed on by calls, one by each a round."""

@@ -1,12 +1,14 @@
-"""People, ups, orders, absent ones, and rounds of calls by which news is passed on.
+"""People, ups, orders, absent ones, calls, and the rounds of calls by which news is passed on.
 
 The rows of a state tell for each person whom it has still to call, in turn,
 or None for one that does not know the news.
 """
 
-from callchain.errors import BadAbsent, BadOrders, BadUps
+from callchain.errors import BadAbsent, BadCalls, BadMany, BadOrders, BadPerson, BadUps
 
 MOST_PEOPLE = 40
+MOST_ROUNDS = 40
+MOST_ABSENT = 3
 
 
 def is_number(thing):
@@ -73,6 +75,31 @@ def is_absent(absent, people):
     return True
 
 
+def is_call(call):
+    """Whether it is a triple of two numbers, whatever they are, and True or False."""
+    if not isinstance(call, tuple) or len(call) != 3:
+        return False
+    caller, called, there = call
+    return is_number(caller) and is_number(called) and isinstance(there, bool)
+
+
+def is_calls(calls):
+    """Whether it is a list of at most 40 rounds, each a list of calls."""
+    if not isinstance(calls, list) or len(calls) > MOST_ROUNDS:
+        return False
+    for told in calls:
+        if not isinstance(told, list) or not all(is_call(call) for call in told):
+            return False
+    return True
+
+
+def copied(thing):
+    """A new list with new lists in it; what is no list stays what it is."""
+    if not isinstance(thing, list):
+        return thing
+    return [list(part) if isinstance(part, list) else part for part in thing]
+
+
 def take_ups(ups):
     """A copy of the ups, or BadUps."""
     if not is_ups(ups):
@@ -84,7 +111,7 @@ def take_orders(orders):
     """A copy of the orders, or BadOrders."""
     if not is_orders(orders):
         raise BadOrders("orders are 1 to 40 lists in which each but 0 is called once and is come to from 0")
-    return [list(row) for row in orders]
+    return copied(orders)
 
 
 def take_absent(absent, people):
@@ -100,14 +127,30 @@ def take_orders_and_absent(orders, absent):
     return own, take_absent(absent, len(own))
 
 
+def take_calls(calls):
+    """A copy of the rounds of calls, or BadCalls."""
+    if not is_calls(calls):
+        raise BadCalls("calls are at most 40 lists of triples: a number, a number, and True or False")
+    return copied(calls)
+
+
+def take_many(many):
+    """The same number, or BadMany."""
+    if not is_number(many) or not 0 <= many <= MOST_ABSENT:
+        raise BadMany("how many are absent at most is a number from 0 to 3")
+    return many
+
+
+def take_person(person, people):
+    """The same one of so many people, or BadPerson."""
+    if not is_person(person, people):
+        raise BadPerson("a person is a number from 0 on, less than how many people there are")
+    return person
+
+
 def first_rows(orders):
     """The rows before the first round, when only 0 knows."""
     return [list(orders[0])] + [None for row in orders[1:]]
-
-
-def copy_rows(rows):
-    """The same rows, anew."""
-    return [None if row is None else list(row) for row in rows]
 
 
 def callers(rows):
@@ -115,12 +158,15 @@ def callers(rows):
     return [person for person, row in enumerate(rows) if row is not None and len(row) > 0]
 
 
-def pass_round(orders, rows, absent):
+def next_round(orders, rows, absent):
     """A pair: the calls of the next round, as triples by callers, and the rows behind it."""
     calls = []
-    behind = copy_rows(rows)
+    behind = copied(rows)
     # The callers are those of the rows before: who is called now does not call before the next round.
     for caller in callers(rows):
+        # Where absent ones change from round to round, one that knows can be among them.
+        if caller in absent:
+            continue
         called, *rest = rows[caller]
         there = called not in absent
         if there:
@@ -137,6 +183,61 @@ def all_rounds(orders, absent):
     rounds = []
     rows = first_rows(orders)
     while callers(rows):
-        calls, rows = pass_round(orders, rows, absent)
+        calls, rows = next_round(orders, rows, absent)
         rounds.append(calls)
     return rounds
+
+
+def first_wrong(orders, calls):
+    """A pair: the first round and the place in it that come with no absent ones; None if all calls come so."""
+    rows = first_rows(orders)
+    for turn, told in enumerate(calls):
+        due = [(caller, rows[caller][0]) for caller in callers(rows)]
+        if not due:
+            return turn, 0
+        spot = first_unlike(due, [(caller, called) for caller, called, there in told])
+        if spot is not None:
+            return turn, spot
+        # Each is called once, so whether one is absent is told once, too, and any such truths go together.
+        rows = next_round(orders, rows, [called for caller, called, there in told if not there])[1]
+    return (len(calls), 0) if callers(rows) else None
+
+
+def first_unlike(ones, others):
+    """The first place at which two lists are unlike, also where only one of them has ended; None if they are alike."""
+    for at, (one, other) in enumerate(zip(ones, others)):
+        if one != other:
+            return at
+    return None if len(ones) == len(others) else min(len(ones), len(others))
+
+
+def absent_lists(people, many):
+    """All lists of at most so many absent ones among the people."""
+    told = [[]]
+    for person in range(1, people):
+        told = told + [absent + [person] for absent in told if len(absent) < many]
+    return told
+
+
+def worst_absent(orders, many):
+    """A pair: absent ones, at most so many, that bring the most rounds of calls, and how many rounds these are."""
+    worst = []
+    most = 0
+    for absent in absent_lists(len(orders), many):
+        turns = len(all_rounds(orders, absent))
+        if turns > most:
+            worst = absent
+            most = turns
+    return worst, most
+
+
+def rounds_back(orders, absent):
+    """How many rounds have gone when 0 knows, by reports told back, that nothing is left."""
+    ready = [0 for row in orders]
+    rounds = list(enumerate(all_rounds(orders, absent), start=1))
+    # From the last round on: when one's call is looked at, all calls and reports of the one called are already in.
+    for turn, calls in reversed(rounds):
+        for caller, called, there in calls:
+            answer = max(turn, ready[called]) + 1 if there else turn
+            ready[caller] = max(ready[caller], answer)
+    return ready[0]

@@ -21,6 +21,12 @@ BARRED_PARTS = ["dataclass", "overload", "contextmanager"]
 BARRED_NODES = (
     ast.Global, ast.AsyncFunctionDef, ast.AsyncFor, ast.AsyncWith, ast.Await, ast.Div, ast.MatMult, ast.Import,
 )
+BUILTIN_METHODS = (
+    "append clear copy count endswith extend find get index insert isalnum isalpha isdigit islower isspace isupper items "
+    "join keys ljust lower lstrip partition pop remove replace reverse rfind rjust rpartition rsplit rstrip setdefault "
+    "split splitlines startswith strip update upper values zfill bit_length add discard"
+).split()
+DOUBLE_UNDERSCORED = ["__init__", "__eq__", "__repr__", "__str__", "__len__"]
 PYTHONS_OWN = set(dir(__builtins__) if not isinstance(__builtins__, dict) else __builtins__)
 
 
@@ -45,6 +51,44 @@ def bound_names(tree):
         elif isinstance(node, ast.alias):
             names.append(node.asname or node.name)
     return names
+
+
+def local_names(tree):
+    """The names that the functions of a file bind."""
+    names = []
+    for node in ast.walk(tree):
+        if isinstance(node, (ast.FunctionDef, ast.Lambda)):
+            for inner in ast.walk(node):
+                if isinstance(inner, ast.Name) and isinstance(inner.ctx, ast.Store):
+                    names.append(inner.id)
+                elif isinstance(inner, ast.arg):
+                    names.append(inner.arg)
+    return names
+
+
+def defined_in(tree):
+    """The names that a file defines at module level, without those of imports."""
+    names = [node.name for node in tree.body if isinstance(node, (ast.FunctionDef, ast.ClassDef))]
+    return names + [node.targets[0].id for node in tree.body if isinstance(node, ast.Assign)]
+
+
+def own_methods():
+    """The names of the methods of all classes."""
+    return [
+        inner.name
+        for name, tree in trees()
+        for node in tree.body if isinstance(node, ast.ClassDef)
+        for inner in node.body if isinstance(inner, ast.FunctionDef)
+    ]
+
+
+def attributes():
+    """The names of the attributes that are assigned anywhere."""
+    return [
+        node.attr
+        for name, tree in trees()
+        for node in ast.walk(tree) if isinstance(node, ast.Attribute) and isinstance(node.ctx, ast.Store)
+    ]
 
 
 class FilesTest(unittest.TestCase):
@@ -94,6 +138,48 @@ class CodeTest(unittest.TestCase):
                     self.assertEqual(node.level, 0, name)
                     self.assertRegex(node.module, r"^callchain\.[a-z_]+$")
                     self.assertNotIn("*", [alias.name for alias in node.names])
+
+    def test_imports_name_the_file_that_defines_and_go_one_way(self):
+        defined = {name[:-3]: defined_in(tree) for name, tree in trees()}
+        imported = {name[:-3]: [] for name, tree in trees()}
+        for name, tree in trees():
+            for node in tree.body:
+                if isinstance(node, ast.ImportFrom):
+                    module = node.module.split(".")[1]
+                    imported[name[:-3]].append(module)
+                    for alias in node.names:
+                        self.assertIn(alias.name, defined[module], name)
+        while imported:
+            free = [name for name in imported if not any(other in imported for other in imported[name])]
+            self.assertTrue(free, imported)
+            imported = {name: imported[name] for name in imported if name not in free}
+
+    def test_names_bound_once_at_module_level(self):
+        for name, tree in trees():
+            names = defined_in(tree)
+            for node in tree.body:
+                if isinstance(node, ast.ImportFrom):
+                    names.extend(alias.asname or alias.name for alias in node.names)
+            self.assertEqual(sorted(names), sorted(set(names)), name)
+
+    def test_no_local_name_is_that_of_a_class_or_an_import(self):
+        for name, tree in trees():
+            taken = [node.name for node in tree.body if isinstance(node, ast.ClassDef)]
+            for node in tree.body:
+                if isinstance(node, ast.ImportFrom):
+                    taken.extend(alias.asname or alias.name for alias in node.names)
+            self.assertEqual([local for local in local_names(tree) if local in taken], [], name)
+
+    def test_methods_and_attributes(self):
+        methods, fields = own_methods(), attributes()
+        self.assertEqual([name for name in methods if name in fields], [])
+        for name in methods:
+            if name.startswith("__"):
+                self.assertIn(name, DOUBLE_UNDERSCORED)
+        for name, tree in trees():
+            for node in ast.walk(tree):
+                if isinstance(node, ast.Attribute) and isinstance(node.ctx, ast.Load):
+                    self.assertIn(node.attr, methods + fields + BUILTIN_METHODS, name)
 
     def test_barred_statements_and_values(self):
         for name, tree in trees():

@@ -1,55 +1,11 @@
 """Rounds of calls, with and without absent ones (points 1, 3 and 4)."""
 
 import copy
-import itertools
 import unittest
 
 from callchain import news
-from samples import chain, star
-
-
-def orders_of(people):
-    """All orders in which each is called by one with a lesser count, in both turns."""
-    for ups in itertools.product(*[range(person) for person in range(1, people)]):
-        orders = [[] for person in range(people)]
-        for person, up in enumerate(ups, start=1):
-            orders[up].append(person)
-        yield orders
-        yield [row[::-1] for row in orders]
-
-
-def subsets(people):
-    others = range(1, people)
-    for many in range(people):
-        for absent in itertools.combinations(others, many):
-            yield list(absent)
-
-
-def taken_over(orders, absent, person):
-    """All that a present one calls in the end: behind an absent one at once those of that one."""
-    told = []
-    for called in orders[person]:
-        told.append(called)
-        if called in absent:
-            told.extend(taken_over(orders, absent, called))
-    return told
-
-
-def expected(orders, absent):
-    """The rounds by when each is called: the k-th call of one that came to know at t is at t + k."""
-    calls = []
-
-    def spread(person, when):
-        for behind, called in enumerate(taken_over(orders, absent, person)):
-            calls.append((when + behind, person, called, called not in absent))
-            if called not in absent:
-                spread(called, when + behind + 1)
-
-    spread(0, 0)
-    rounds = [[] for turn in range(max([call[0] for call in calls], default=-1) + 1)]
-    for when, caller, called, there in sorted(calls):
-        rounds[when].append((caller, called, there))
-    return rounds
+from reckon import rounds_of
+from samples import absent_of, chain, some_orders, star
 
 
 class RoundsTest(unittest.TestCase):
@@ -153,10 +109,10 @@ class RoundsTest(unittest.TestCase):
 
     def test_all_small_orders_with_all_absent_ones(self):
         for people in range(1, 7):
-            for orders in orders_of(people):
-                for absent in subsets(people):
+            for orders in some_orders(people):
+                for absent in absent_of(people):
                     told = news.all_rounds(orders, absent)
-                    self.assertEqual(told, expected(orders, absent), (orders, absent))
+                    self.assertEqual(told, rounds_of(orders, absent), (orders, absent))
                     called = sorted(call[1] for calls in told for call in calls)
                     self.assertEqual(called, list(range(1, people)))
 
@@ -183,7 +139,7 @@ class NothingChangedTest(unittest.TestCase):
     def test_a_change_afterwards_changes_nothing_told(self):
         orders = [[1, 2], [3], [], []]
         rows = news.first_rows(orders)
-        calls, behind = news.pass_round(orders, rows, [])
+        calls, behind = news.next_round(orders, rows, [])
         orders[0].clear()
         orders[1].clear()
         rows[0].clear()
@@ -207,29 +163,37 @@ class OneRoundTest(unittest.TestCase):
     def test_a_called_one_knows_behind_the_round(self):
         orders = [[1, 2], [3], [], []]
         self.assertEqual(
-            news.pass_round(orders, [[1, 2], None, None, None], []),
+            news.next_round(orders, [[1, 2], None, None, None], []),
             ([(0, 1, True)], [[2], [3], None, None]),
         )
 
     def test_an_absent_one_is_passed_over_and_does_not_know(self):
         orders = [[1, 2], [3, 4], [], [], []]
         self.assertEqual(
-            news.pass_round(orders, [[1, 2], None, None, None, None], [1]),
+            news.next_round(orders, [[1, 2], None, None, None, None], [1]),
             ([(0, 1, False)], [[3, 4, 2], None, None, None, None]),
         )
 
     def test_several_call_at_once(self):
         orders = [[1, 2], [3], [4], [], []]
         self.assertEqual(
-            news.pass_round(orders, [[2], [3], None, None, None], [2]),
+            news.next_round(orders, [[2], [3], None, None, None], [2]),
             ([(0, 2, False), (1, 3, True)], [[4], [], None, [], None]),
         )
+
+    def test_an_absent_one_that_knows_does_not_call(self):
+        orders = [[1, 2], [3], [4], [], []]
+        self.assertEqual(
+            news.next_round(orders, [[2], [3], None, None, None], [1, 2]),
+            ([(0, 2, False)], [[4], [3], None, None, None]),
+        )
+        self.assertEqual(news.next_round(orders, [[], [3], None, None, None], [1]), ([], [[], [3], None, None, None]))
 
     def test_rows_before_and_behind_share_no_list(self):
         orders = [[1, 2], [3], [4], [], []]
         rows = [[2], [3], None, None, None]
         before = copy.deepcopy(rows)
-        calls, behind = news.pass_round(orders, rows, [])
+        calls, behind = news.next_round(orders, rows, [])
         for row in behind:
             if row is not None:
                 row.append(9)
@@ -238,7 +202,7 @@ class OneRoundTest(unittest.TestCase):
 
     def test_rows_of_those_that_do_not_call_are_new_too(self):
         rows = [[], [2], None]
-        calls, behind = news.pass_round([[1], [2], []], rows, [2])
+        calls, behind = news.next_round([[1], [2], []], rows, [2])
         behind[0].append(9)
         behind[1].append(9)
         self.assertEqual(rows, [[], [2], None])
